@@ -5,6 +5,7 @@ import (
 	"testing"
 
 	"underpass/api"
+	"underpass/samples"
 )
 
 // plain does as the chapter's words say it, with a list that is gone through,
@@ -114,21 +115,13 @@ func (p *plain) tick(now uint64) ([]api.IP, int) {
 	return rising(due...), gone
 }
 
-// noise is numbers that are the same in each run and look like no row.
-type noise uint64
-
-func (n *noise) below(limit int) int {
-	*n = *n*6364136223846793005 + 1442695040888963407
-	return int(uint64(*n)>>33) % limit
-}
-
-// clock mostly stays or goes on, and goes back at times.
-func (n *noise) clock(now uint64) uint64 {
-	switch n.below(40) {
+// someTime mostly stays or goes on, and goes back at times.
+func someTime(n *samples.Noise, now uint64) uint64 {
+	switch n.Below(40) {
 	case 0:
-		return now + uint64(n.below(Life+2))
+		return now + uint64(n.Below(Life+2))
 	case 1:
-		return now - min(now, uint64(n.below(Life+2)))
+		return now - min(now, uint64(n.Below(Life+2)))
 	case 2, 3, 4, 5:
 		return now + 1
 	}
@@ -142,14 +135,14 @@ type tally struct {
 
 // steps does the same with a cache and with what the words say, and looks at
 // all answers. Of few addresses caches have room, of many they have none.
-func steps(t *testing.T, seed noise, addresses, learns, count int) (*Cache, *plain, tally) {
+func steps(t *testing.T, seed samples.Noise, addresses, learns, count int) (*Cache, *plain, tally) {
 	t.Helper()
 	c, p, sum := New(), &plain{}, tally{}
-	now := uint64(seed.below(100))
+	now := uint64(seed.Below(100))
 	for n := range count {
-		now = seed.clock(now)
-		to := ip(seed.below(addresses))
-		switch step := seed.below(40); {
+		now = someTime(&seed, now)
+		to := ip(seed.Below(addresses))
+		switch step := seed.Below(40); {
 		case step == 0:
 			due, gone := p.tick(now)
 			wantTick(t, "a step", c, now, gone, due...)
@@ -193,7 +186,7 @@ func TestCachesAreWhatTheWordsSay(t *testing.T) {
 	for seed := range 20 {
 		for _, addresses := range []int{3, 31, 33, 60} {
 			for _, learns := range []int{2, 10, 30} {
-				_, _, sum := steps(t, noise(seed), addresses, learns, 400)
+				_, _, sum := steps(t, samples.Noise(seed), addresses, learns, 400)
 				full += sum.full
 			}
 		}
@@ -209,7 +202,7 @@ func TestCachesAreWhatTheWordsSay(t *testing.T) {
 func TestEachPacketIsToldOnceOrGoes(t *testing.T) {
 	told, gone := 0, 0
 	for seed := range 30 {
-		c, p, sum := steps(t, noise(1000+seed), 20+seed, 2+seed%20, 600)
+		c, p, sum := steps(t, samples.Noise(1000+seed), 20+seed, 2+seed%20, 600)
 		last := uint64(1 << 20)
 		for range Tries {
 			due, n := p.tick(last)

@@ -11,15 +11,16 @@ import (
 
 	"underpass/api"
 	"underpass/ipv4"
+	"underpass/samples"
 )
 
 // filling is bytes that look like no row, so that none can stand in another
 // one's place.
 func filling(number, size int) []byte {
-	n := noise(number*100003 + size)
+	n := samples.Noise(number*100003 + size)
 	b := make([]byte, size)
 	for i := range b {
-		b[i] = byte(n.below(256))
+		b[i] = byte(n.Below(256))
 	}
 	return b
 }

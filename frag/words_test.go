@@ -7,15 +7,8 @@ import (
 
 	"underpass/api"
 	"underpass/ipv4"
+	"underpass/samples"
 )
-
-// noise is numbers that are the same in each run and look like no row.
-type noise uint64
-
-func (n *noise) below(limit int) int {
-	*n = *n*6364136223846793005 + 1442695040888963407
-	return int(uint64(*n)>>33) % limit
-}
 
 // plain does as the chapter's words say it, with lists of all parts that came,
 // which are gone through, to hold a Reass against it.
@@ -122,40 +115,40 @@ func (r *plain) tick(now uint64) int {
 	return gone
 }
 
-// clock mostly stays or goes on, and goes back at times.
-func (n *noise) clock(now uint64) uint64 {
-	switch n.below(40) {
+// someTime mostly stays or goes on, and goes back at times.
+func someTime(n *samples.Noise, now uint64) uint64 {
+	switch n.Below(40) {
 	case 0:
-		return now + uint64(n.below(40))
+		return now + uint64(n.Below(40))
 	case 1:
-		return now - min(now, uint64(n.below(40)))
+		return now - min(now, uint64(n.Below(40)))
 	case 2, 3, 4, 5:
 		return now + 1
 	}
 	return now
 }
 
-// part is one of a few packets of 44 bytes; at times its fields, its bytes, or
-// its end are others than theirs, and at times it is not right.
-func (n *noise) part(packets int) ipv4.Packet {
-	p := packet(n.below(packets), 64)
-	off := n.below(6) * 8
-	p = piece(p, off, min(off+8+n.below(3)*8, 44), true)
+// somePart is one of a few packets of 44 bytes; at times its fields, its bytes,
+// or its end are others than theirs, and at times it is not right.
+func somePart(n *samples.Noise, packets int) ipv4.Packet {
+	p := packet(n.Below(packets), 64)
+	off := n.Below(6) * 8
+	p = piece(p, off, min(off+8+n.Below(3)*8, 44), true)
 	p.MF = end(p) < 44
-	p.TOS, p.TTL, p.DF = uint8(n.below(4)), uint8(n.below(4)), n.below(4) == 0
-	switch n.below(60) {
+	p.TOS, p.TTL, p.DF = uint8(n.Below(4)), uint8(n.Below(4)), n.Below(4) == 0
+	switch n.Below(60) {
 	case 0:
-		return turned(p, n.below(len(p.B)))
+		return turned(p, n.Below(len(p.B)))
 	case 1:
 		p.MF = false
 	case 2:
 		p.MF, p.B = true, p.B[:len(p.B)/8*8]
 	case 3:
-		p.B = p.B[:n.below(len(p.B)+1)]
+		p.B = p.B[:n.Below(len(p.B)+1)]
 	case 4:
 		p.Src++
 	case 5:
-		p.Off += n.below(17) - 8
+		p.Off += n.Below(17) - 8
 	case 6:
 		p.MF, p.B = false, nil
 	}
@@ -184,19 +177,19 @@ func (s *tally) count(whole bool, err error) {
 
 // steps does the same with a Reass and with what the words say, and looks at all
 // answers.
-func steps(t *testing.T, seed noise, packets int, count int, s *tally) {
+func steps(t *testing.T, seed samples.Noise, packets int, count int, s *tally) {
 	t.Helper()
-	timeout := uint64(seed.below(40))
+	timeout := uint64(seed.Below(40))
 	r, p := New(timeout), &plain{timeout: timeout}
-	now := uint64(seed.below(100))
+	now := uint64(seed.Below(100))
 	for range count {
-		now = seed.clock(now)
-		if seed.below(30) == 0 {
+		now = someTime(&seed, now)
+		if seed.Below(30) == 0 {
 			gone := p.tick(now)
 			wantTick(t, "a step", r, now, gone)
 			s.gone += gone
 		} else {
-			part := seed.part(packets)
+			part := somePart(&seed, packets)
 			want, whole, err := p.take(part, now)
 			if whole {
 				wantWhole(t, "a step", r, part, now, want)
@@ -213,7 +206,7 @@ func TestReassIsWhatTheWordsSay(t *testing.T) {
 	s := &tally{}
 	for seed := range 40 {
 		for _, packets := range []int{1, 3, 8, 9, 14} {
-			steps(t, noise(seed*100+packets), packets, 500, s)
+			steps(t, samples.Noise(seed*100+packets), packets, 500, s)
 		}
 	}
 	if min(s.whole, s.full, s.spoilt, s.gone, s.wrong, s.waits) < 100 {
@@ -222,26 +215,26 @@ func TestReassIsWhatTheWordsSay(t *testing.T) {
 }
 
 // mixed is the items in another order, each of them once to three times.
-func mixed[T any](n *noise, items []T) []T {
+func mixed[T any](n *samples.Noise, items []T) []T {
 	var all []T
 	for _, x := range items {
-		for range 1 + n.below(3) {
+		for range 1 + n.Below(3) {
 			all = append(all, x)
 		}
 	}
 	for i := range all {
-		j := i + n.below(len(all)-i)
+		j := i + n.Below(len(all)-i)
 		all[i], all[j] = all[j], all[i]
 	}
 	return all
 }
 
 // splitAgain is the parts of parts, by an mtu each.
-func splitAgain(t *testing.T, n *noise, parts []ipv4.Packet) []ipv4.Packet {
+func splitAgain(t *testing.T, n *samples.Noise, parts []ipv4.Packet) []ipv4.Packet {
 	t.Helper()
 	var all []ipv4.Packet
 	for _, p := range parts {
-		l, err := Split(p, 68+n.below(100))
+		l, err := Split(p, 68+n.Below(100))
 		if err != nil {
 			t.Fatal(short(p), err)
 		}
@@ -271,11 +264,11 @@ func wantWholeOf(t *testing.T, r *Reass, parts []ipv4.Packet, want ipv4.Packet) 
 }
 
 func TestWhatIsSplitIsWholeAgain(t *testing.T) {
-	n := noise(7)
+	n := samples.Noise(7)
 	r := New(30)
 	for size := range 500 {
 		p := packet(size, size)
-		for _, mtu := range []int{68, 69, 75, 76, 68 + n.below(300), 20 + max(size, 48)} {
+		for _, mtu := range []int{68, 69, 75, 76, 68 + n.Below(300), 20 + max(size, 48)} {
 			parts, err := Split(p, mtu)
 			if err != nil {
 				t.Fatal(size, mtu, err)
@@ -296,14 +289,14 @@ func TestWhatIsSplitIsWholeAgain(t *testing.T) {
 
 // Parts of eight packets come among each other.
 func TestEightPacketsAreWholeAgain(t *testing.T) {
-	n := noise(8)
+	n := samples.Noise(8)
 	for range 50 {
 		var all []ipv4.Packet
 		whole := map[uint16]ipv4.Packet{}
 		for number := range 8 {
-			p := packet(number, 50+n.below(1500))
+			p := packet(number, 50+n.Below(1500))
 			whole[p.ID] = p
-			parts, err := Split(p, 68+n.below(200))
+			parts, err := Split(p, 68+n.Below(200))
 			if err != nil {
 				t.Fatal(err)
 			}
@@ -333,7 +326,7 @@ func TestEightPacketsAreWholeAgain(t *testing.T) {
 // The largest packet, in the least parts, through the bytes that go over a wire.
 func TestTheLargestPacketIsWholeAgain(t *testing.T) {
 	p := packet(0, 65515)
-	n := noise(9)
+	n := samples.Noise(9)
 	parts, err := Split(p, 68)
 	if err != nil {
 		t.Fatal(err)
@@ -356,14 +349,14 @@ func TestTheLargestPacketIsWholeAgain(t *testing.T) {
 
 // Whatever is split has parts that are right, in order, and has all its bytes.
 func TestPartsAreWhatTheWordsSay(t *testing.T) {
-	n := noise(10)
+	n := samples.Noise(10)
 	for range 3000 {
-		p := packet(n.below(9), n.below(600))
-		p.Off, p.DF = n.below(100)*8, n.below(3) == 0
-		if n.below(2) == 0 {
+		p := packet(n.Below(9), n.Below(600))
+		p.Off, p.DF = n.Below(100)*8, n.Below(3) == 0
+		if n.Below(2) == 0 {
 			p.MF, p.B = true, append(p.B, filling(0, 8-len(p.B)%8)...)
 		}
-		mtu := 68 + n.below(400)
+		mtu := 68 + n.Below(400)
 		if p.DF && len(p.B)+20 > mtu {
 			wantNoSplit(t, "DF", p, mtu, of(api.ErrBig))
 			continue

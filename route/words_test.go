@@ -5,6 +5,7 @@ import (
 	"testing"
 
 	"underpass/api"
+	"underpass/samples"
 )
 
 // plain does as the chapter's words say it, with a list that is gone through,
@@ -63,37 +64,29 @@ func (p *plain) list() []Route {
 	return routes
 }
 
-// noise is numbers that are the same in each run and look like no row.
-type noise uint64
-
-func (n *noise) below(limit int) int {
-	*n = *n*6364136223846793005 + 1442695040888963407
-	return int(uint64(*n)>>33) % limit
-}
-
-// address is often one that has much in common with others.
-func (n *noise) address() api.IP {
-	ip := []api.IP{0, ip(10, 0, 0, 0), ip(10, 1, 0, 0), 0x80000000, 0xFFFFFFFF}[n.below(5)]
-	for range n.below(4) {
-		ip ^= 1 << n.below(32)
+// someAddress is often one that has much in common with others.
+func someAddress(n *samples.Noise) api.IP {
+	ip := []api.IP{0, ip(10, 0, 0, 0), ip(10, 1, 0, 0), 0x80000000, 0xFFFFFFFF}[n.Below(5)]
+	for range n.Below(4) {
+		ip ^= 1 << n.Below(32)
 	}
 	return ip
 }
 
-// bits are at times none that a route has.
-func (n *noise) bits() int { return n.below(37) - 2 }
+// someBits are at times none that a route has.
+func someBits(n *samples.Noise) int { return n.Below(37) - 2 }
 
 // steps does the same with a table and with what the words say, and looks at
 // all answers.
-func steps(t *testing.T, seed noise, count int, look func(tb *Table, p *plain, ip api.IP)) {
+func steps(t *testing.T, seed samples.Noise, count int, look func(tb *Table, p *plain, ip api.IP)) {
 	t.Helper()
 	tb, p, full := New(), &plain{}, 0
 	for n := range count {
-		ip, bits := seed.address(), seed.bits()
-		if seed.below(8) > 0 {
+		ip, bits := someAddress(&seed), someBits(&seed)
+		if seed.Below(8) > 0 {
 			ip = cut(ip, bits)
 		}
-		if seed.below(4) > 0 {
+		if seed.Below(4) > 0 {
 			r := mark(ip, bits, n)
 			want := p.add(r)
 			wantAdd(t, "a step", tb, r, want)
@@ -101,14 +94,14 @@ func steps(t *testing.T, seed noise, count int, look func(tb *Table, p *plain, i
 				full++
 			}
 		} else {
-			if len(p.routes) > 0 && seed.below(2) == 0 {
-				r := p.routes[seed.below(len(p.routes))]
+			if len(p.routes) > 0 && seed.Below(2) == 0 {
+				r := p.routes[seed.Below(len(p.routes))]
 				ip, bits = r.Dst, r.Bits
 			}
 			wantDel(t, "a step", tb, ip, bits, p.del(ip, bits))
 		}
 		wantList(t, "a step", tb, p.list()...)
-		look(tb, p, seed.address())
+		look(tb, p, someAddress(&seed))
 		look(tb, p, ip)
 	}
 	if full == 0 {
@@ -118,7 +111,7 @@ func steps(t *testing.T, seed noise, count int, look func(tb *Table, p *plain, i
 
 func TestTablesAreWhatTheWordsSay(t *testing.T) {
 	for seed := range 20 {
-		steps(t, noise(seed), 1000, func(tb *Table, p *plain, ip api.IP) {
+		steps(t, samples.Noise(seed), 1000, func(tb *Table, p *plain, ip api.IP) {
 			if r, ok := p.find(ip); ok {
 				wantFound(t, "a step", tb, ip, r)
 			} else {
@@ -130,7 +123,7 @@ func TestTablesAreWhatTheWordsSay(t *testing.T) {
 
 func TestNoRouteThatCoversHasMoreBits(t *testing.T) {
 	for seed := range 20 {
-		steps(t, noise(100+seed), 1000, func(tb *Table, _ *plain, ip api.IP) {
+		steps(t, samples.Noise(100+seed), 1000, func(tb *Table, _ *plain, ip api.IP) {
 			found, ok := tb.Find(ip)
 			if ok && cut(ip, found.Bits) != found.Dst {
 				t.Fatalf("%+v does not cover %08X", found, ip)

@@ -5,6 +5,7 @@ import (
 	"testing"
 
 	"underpass/api"
+	"underpass/samples"
 )
 
 // heads are some that may be, with the id that each tells.
@@ -37,10 +38,10 @@ func TestDecapOfBytesThatEndTooEarly(t *testing.T) {
 func TestDecapOfEachSmallSize(t *testing.T) {
 	for _, h := range heads {
 		for n := range 300 {
-			if b := told(h.head, frameOf(n)); n < 14 {
+			if b := told(h.head, samples.Frame(n)); n < 14 {
 				wantNoFrame(t, h.name+", and fewer than 14 bytes", b, api.ErrShort)
 			} else {
-				wantFrame(t, h.name, b, h.id, frameOf(n))
+				wantFrame(t, h.name, b, h.id, samples.Frame(n))
 			}
 		}
 	}
@@ -49,17 +50,17 @@ func TestDecapOfEachSmallSize(t *testing.T) {
 func TestDecapOfTheLargestSizes(t *testing.T) {
 	for _, h := range heads {
 		for n := 8980; n <= 9000; n++ {
-			wantFrame(t, h.name, told(h.head, frameOf(n)), h.id, frameOf(n))
+			wantFrame(t, h.name, told(h.head, samples.Frame(n)), h.id, samples.Frame(n))
 		}
 		for _, n := range []int{9001, 9002, 9008, 9014, 16384, 65536, 65536 + 14, 1000000} {
-			wantNoFrame(t, h.name+", and more than 9000 bytes", told(h.head, frameOf(n)), api.ErrBig)
+			wantNoFrame(t, h.name+", and more than 9000 bytes", told(h.head, samples.Frame(n)), api.ErrBig)
 		}
 	}
 }
 
 // What stands behind the end of a slice, in its room, is none of its bytes.
 func TestDecapLooksAtNoBytesBehindTheEnd(t *testing.T) {
-	room := told([]byte{0x08, 0, 0, 0, 0, 0, 5, 0}, frameOf(9100))
+	room := told([]byte{0x08, 0, 0, 0, 0, 0, 5, 0}, samples.Frame(9100))
 	for n := range 8 {
 		wantNoHead(t, "bytes with more in their room", room[:n])
 	}
@@ -67,15 +68,15 @@ func TestDecapLooksAtNoBytesBehindTheEnd(t *testing.T) {
 		wantNoFrame(t, "a frame with more in its room", room[:n], api.ErrShort)
 	}
 	for _, n := range []int{14, 15, 60, 9000} {
-		wantFrame(t, "a frame with more in its room", room[:8+n], 5, frameOf(9100)[:n])
+		wantFrame(t, "a frame with more in its room", room[:8+n], 5, samples.Frame(9100)[:n])
 	}
 }
 
 func TestDecapOfEachFirstByte(t *testing.T) {
 	for n := range 256 {
-		b := told([]byte{byte(n), 0, 0, 0, 0, 0, 5, 0}, frameOf(60))
+		b := told([]byte{byte(n), 0, 0, 0, 0, 0, 5, 0}, samples.Frame(60))
 		if n/8%2 == 1 {
-			wantFrame(t, "a first byte with the bit 08", b, 5, frameOf(60))
+			wantFrame(t, "a first byte with the bit 08", b, 5, samples.Frame(60))
 		} else {
 			wantNoFrame(t, "a first byte without the bit 08", b, api.ErrForm)
 		}
@@ -85,7 +86,7 @@ func TestDecapOfEachFirstByte(t *testing.T) {
 // The bit 08 of another byte is none of the first one.
 func TestDecapOfTheBitInAnotherByte(t *testing.T) {
 	for i := 1; i < 8; i++ {
-		b := told(make([]byte, 8), frameOf(60))
+		b := told(make([]byte, 8), samples.Frame(60))
 		b[i] = 0x08
 		wantNoFrame(t, "the bit in another byte", b, api.ErrForm)
 		b[0] = 0xF7
@@ -97,9 +98,9 @@ func TestDecapOfTheBitInAnotherByte(t *testing.T) {
 func TestDecapOfBytesThatMeanNothing(t *testing.T) {
 	for _, i := range []int{1, 2, 3, 7} {
 		for n := range 256 {
-			b := told([]byte{0x08, 0, 0, 0, 0x12, 0x34, 0x56, 0}, frameOf(60))
+			b := told([]byte{0x08, 0, 0, 0, 0x12, 0x34, 0x56, 0}, samples.Frame(60))
 			b[i] = byte(n)
-			wantFrame(t, "a byte that means nothing", b, 0x123456, frameOf(60))
+			wantFrame(t, "a byte that means nothing", b, 0x123456, samples.Frame(60))
 			b[0] = 0
 			wantNoFrame(t, "a byte that means nothing, without the bit 08", b, api.ErrForm)
 		}
@@ -109,9 +110,9 @@ func TestDecapOfBytesThatMeanNothing(t *testing.T) {
 func TestDecapOfEachByteOfAnID(t *testing.T) {
 	for n := range uint32(256) {
 		for i, shift := range []int{16, 8, 0} {
-			b := told([]byte{0x08, 0xC1, 0xC2, 0xC3, 0, 0, 0, 0xC4}, frameOf(14))
+			b := told([]byte{0x08, 0xC1, 0xC2, 0xC3, 0, 0, 0, 0xC4}, samples.Frame(14))
 			b[4+i] = byte(n)
-			wantFrame(t, "an id of one byte", b, n<<shift, frameOf(14))
+			wantFrame(t, "an id of one byte", b, n<<shift, samples.Frame(14))
 		}
 	}
 }
@@ -120,7 +121,7 @@ func TestDecapOfEachByteOfAnID(t *testing.T) {
 func TestDecapTellsTheHeaderFirst(t *testing.T) {
 	for _, first := range []byte{0, 1, 7, 0x10, 0x80, 0xF7} {
 		for _, n := range []int{0, 1, 13, 14, 9000, 9001, 65536} {
-			b := told([]byte{first, 0, 0, 0, 0, 0, 5, 0}, frameOf(n))
+			b := told([]byte{first, 0, 0, 0, 0, 0, 5, 0}, samples.Frame(n))
 			wantNoFrame(t, "no bit 08, whatever the frame is", b, api.ErrForm)
 			b[0] |= 0x08
 			switch {
@@ -129,7 +130,7 @@ func TestDecapTellsTheHeaderFirst(t *testing.T) {
 			case n > 9000:
 				wantNoFrame(t, "the bit 08, and a large frame", b, api.ErrBig)
 			default:
-				wantFrame(t, "the bit 08", b, 5, frameOf(n))
+				wantFrame(t, "the bit 08", b, 5, samples.Frame(n))
 			}
 		}
 	}
@@ -171,7 +172,7 @@ func TestFramesAreTheCallers(t *testing.T) {
 func TestDecapLeavesWhatItRefuses(t *testing.T) {
 	for _, n := range []int{0, 3, 8, 8 + 13, 8 + 14, 8 + 9000, 8 + 9001} {
 		for _, first := range []byte{0, 0x08} {
-			b := frameOf(n)
+			b := samples.Frame(n)
 			copy(b, []byte{first})
 			want := bytes.Clone(b)
 			_, _, _ = Decap(b)

@@ -5,10 +5,11 @@ import (
 	"testing"
 
 	"underpass/api"
+	"underpass/samples"
 )
 
 func TestEncapOfEachByteOfAnID(t *testing.T) {
-	frame := frameOf(20)
+	frame := samples.Frame(20)
 	for n := range uint32(256) {
 		for shift := 0; shift < 24; shift += 8 {
 			id := uint32(0x414243)&^(0xFF<<shift) | n<<shift
@@ -21,20 +22,20 @@ func TestEncapOfEachByteOfAnID(t *testing.T) {
 func TestEncapOfIDsThatAreTooLarge(t *testing.T) {
 	for _, id := range []uint32{1 << 24, 1<<24 + 1, 1<<24 + 5, 1<<25 - 1, 1 << 25, 0x05000000, 0x7FFFFFFF, 1 << 31, 0xFF000000, 1<<32 - 2, 1<<32 - 1} {
 		for _, size := range []int{14, 60, 9000} {
-			wantNoPacket(t, "an id of four bytes", id, frameOf(size), api.ErrArg)
+			wantNoPacket(t, "an id of four bytes", id, samples.Frame(size), api.ErrArg)
 		}
 	}
 	for bit := 24; bit < 32; bit++ {
-		wantNoPacket(t, "an id of one bit", 1<<bit, frameOf(14), api.ErrArg)
-		wantNoPacket(t, "an id that were one without a bit", 1<<bit|5, frameOf(14), api.ErrArg)
+		wantNoPacket(t, "an id of one bit", 1<<bit, samples.Frame(14), api.ErrArg)
+		wantNoPacket(t, "an id that were one without a bit", 1<<bit|5, samples.Frame(14), api.ErrArg)
 	}
-	wantPacket(t, "the highest id", 1<<24-1, frameOf(14), told([]byte{0x08, 0, 0, 0, 0xFF, 0xFF, 0xFF, 0}, frameOf(14)))
+	wantPacket(t, "the highest id", 1<<24-1, samples.Frame(14), told([]byte{0x08, 0, 0, 0, 0xFF, 0xFF, 0xFF, 0}, samples.Frame(14)))
 }
 
 func TestEncapOfEachSmallFrame(t *testing.T) {
 	head := []byte{0x08, 0, 0, 0, 0, 0, 9, 0}
 	for n := range 300 {
-		if frame := frameOf(n); n < 14 {
+		if frame := samples.Frame(n); n < 14 {
 			wantNoPacket(t, "a frame of fewer than 14 bytes", 9, frame, api.ErrShort)
 		} else {
 			wantPacket(t, "a frame of 14 bytes or more", 9, frame, told(head, frame))
@@ -47,10 +48,10 @@ func TestEncapOfEachSmallFrame(t *testing.T) {
 func TestEncapOfTheLargestFrames(t *testing.T) {
 	head := []byte{0x08, 0, 0, 0, 0, 0, 9, 0}
 	for n := 8980; n <= 9000; n++ {
-		wantPacket(t, "a frame of 9000 bytes or fewer", 9, frameOf(n), told(head, frameOf(n)))
+		wantPacket(t, "a frame of 9000 bytes or fewer", 9, samples.Frame(n), told(head, samples.Frame(n)))
 	}
 	for _, n := range []int{9001, 9002, 9008, 9014, 16384, 65536, 65536 + 14, 1000000} {
-		wantNoPacket(t, "a frame of more than 9000 bytes", 9, frameOf(n), api.ErrBig)
+		wantNoPacket(t, "a frame of more than 9000 bytes", 9, samples.Frame(n), api.ErrBig)
 	}
 }
 
@@ -58,24 +59,24 @@ func TestEncapOfTheLargestFrames(t *testing.T) {
 func TestEncapTellsTheIDFirst(t *testing.T) {
 	for _, id := range []uint32{1 << 24, 0x01000005, 1<<32 - 1} {
 		for _, n := range []int{0, 1, 13, 14, 9000, 9001, 65536} {
-			wantNoPacket(t, "an id that may not be", id, frameOf(n), api.ErrArg)
+			wantNoPacket(t, "an id that may not be", id, samples.Frame(n), api.ErrArg)
 		}
 		wantNoPacket(t, "an id that may not be, and nil", id, nil, api.ErrArg)
 	}
 	for _, id := range []uint32{0, 5, 1<<24 - 1} {
-		wantNoPacket(t, "a frame that is shorter", id, frameOf(13), api.ErrShort)
-		wantNoPacket(t, "a frame that is longer", id, frameOf(9001), api.ErrBig)
+		wantNoPacket(t, "a frame that is shorter", id, samples.Frame(13), api.ErrShort)
+		wantNoPacket(t, "a frame that is longer", id, samples.Frame(9001), api.ErrBig)
 	}
 }
 
 // Bytes behind the end, in the room of a frame, are none of it.
 func TestEncapLooksAtNoBytesBehindTheEnd(t *testing.T) {
-	room := frameOf(9100)
+	room := samples.Frame(9100)
 	wantNoPacket(t, "13 bytes with more in their room", 1, room[:13], api.ErrShort)
 	for _, n := range []int{14, 60, 9000} {
 		wantPacket(t, "a frame with more in its room", 1, room[:n], told([]byte{0x08, 0, 0, 0, 0, 0, 1, 0}, room[:n]))
 	}
-	if !bytes.Equal(room, frameOf(9100)) {
+	if !bytes.Equal(room, samples.Frame(9100)) {
 		t.Fatal("Encap has written into a frame's room")
 	}
 }
@@ -104,9 +105,9 @@ func TestEncapKeepsNothingOfTheFrame(t *testing.T) {
 func TestEncapLeavesWhatItRefuses(t *testing.T) {
 	for _, n := range []int{0, 13, 14, 9000, 9001} {
 		for _, id := range []uint32{5, 1 << 24} {
-			frame := frameOf(n)
+			frame := samples.Frame(n)
 			_, _ = Encap(id, frame)
-			if !bytes.Equal(frame, frameOf(n)) {
+			if !bytes.Equal(frame, samples.Frame(n)) {
 				t.Fatalf("id %d: %d bytes were changed", id, n)
 			}
 		}

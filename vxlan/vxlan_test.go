@@ -8,6 +8,7 @@ import (
 	"testing"
 
 	"underpass/api"
+	"underpass/samples"
 )
 
 // packets are ids and frames, each with the eight bytes ahead of the frame.
@@ -17,26 +18,16 @@ var packets = []struct {
 	frame []byte
 	head  []byte
 }{
-	{"the chapter's example", 5, frameOf(14), []byte{0x08, 0, 0, 0, 0, 0, 5, 0}},
-	{"an id of 0", 0, frameOf(60), []byte{0x08, 0, 0, 0, 0, 0, 0, 0}},
-	{"an id of 1", 1, frameOf(61), []byte{0x08, 0, 0, 0, 0, 0, 1, 0}},
-	{"an id whose bytes are all unlike", 0x123456, frameOf(64), []byte{0x08, 0, 0, 0, 0x12, 0x34, 0x56, 0}},
-	{"the highest id", 0xFFFFFF, frameOf(1514), []byte{0x08, 0, 0, 0, 0xFF, 0xFF, 0xFF, 0}},
-	{"an id of the highest byte alone", 0x080000, frameOf(15), []byte{0x08, 0, 0, 0, 8, 0, 0, 0}},
-	{"the largest frame", 0x0000FF, frameOf(9000), []byte{0x08, 0, 0, 0, 0, 0, 0xFF, 0}},
-	{"a frame one smaller", 0x00FF00, frameOf(8999), []byte{0x08, 0, 0, 0, 0, 0xFF, 0, 0}},
+	{"the chapter's example", 5, samples.Frame(14), []byte{0x08, 0, 0, 0, 0, 0, 5, 0}},
+	{"an id of 0", 0, samples.Frame(60), []byte{0x08, 0, 0, 0, 0, 0, 0, 0}},
+	{"an id of 1", 1, samples.Frame(61), []byte{0x08, 0, 0, 0, 0, 0, 1, 0}},
+	{"an id whose bytes are all unlike", 0x123456, samples.Frame(64), []byte{0x08, 0, 0, 0, 0x12, 0x34, 0x56, 0}},
+	{"the highest id", 0xFFFFFF, samples.Frame(1514), []byte{0x08, 0, 0, 0, 0xFF, 0xFF, 0xFF, 0}},
+	{"an id of the highest byte alone", 0x080000, samples.Frame(15), []byte{0x08, 0, 0, 0, 8, 0, 0, 0}},
+	{"the largest frame", 0x0000FF, samples.Frame(9000), []byte{0x08, 0, 0, 0, 0, 0, 0xFF, 0}},
+	{"a frame one smaller", 0x00FF00, samples.Frame(8999), []byte{0x08, 0, 0, 0, 0, 0xFF, 0, 0}},
 	{"a frame of noughts", 0xFF0000, make([]byte, 100), []byte{0x08, 0, 0, 0, 0xFF, 0, 0, 0}},
 	{"a frame that looks like a header", 7, []byte{8, 0, 0, 0, 0, 0, 9, 0, 8, 0, 0, 0, 0, 0, 9, 0}, []byte{0x08, 0, 0, 0, 0, 0, 7, 0}},
-}
-
-// frameOf is a frame of so many bytes, of which those beside each other are
-// unlike.
-func frameOf(n int) []byte {
-	b := make([]byte, n)
-	for i := range b {
-		b[i] = byte(i*7 + i>>8 + 0x31)
-	}
-	return b
 }
 
 // told is what stands in the packet: the eight bytes and the frame.
@@ -112,7 +103,7 @@ func TestEncapAndDecapOfPackets(t *testing.T) {
 }
 
 func TestTheChaptersExample(t *testing.T) {
-	frame := frameOf(14)
+	frame := samples.Frame(14)
 	b, err := Encap(5, frame)
 	if err != nil || !bytes.Equal(b, append([]byte{0x08, 0, 0, 0, 0, 0, 0x05, 0}, frame...)) {
 		t.Fatalf("got % X, %v", b, err)
@@ -123,7 +114,7 @@ func TestWhatWasPutInComesOut(t *testing.T) {
 	for _, size := range []int{14, 15, 59, 60, 1514, 8999, 9000} {
 		for bit := range 24 {
 			for _, id := range []uint32{1 << bit, 0xFFFFFF ^ 1<<bit, 1<<bit - 1} {
-				frame := frameOf(size)
+				frame := samples.Frame(size)
 				frame[bit%14] ^= 0xFF
 				b, err := Encap(id, frame)
 				if err != nil {
@@ -148,7 +139,7 @@ func TestWhatCameOutIsPutIn(t *testing.T) {
 
 // A frame in a packet in a packet comes out again as it was.
 func TestAPacketInAPacket(t *testing.T) {
-	frame := frameOf(100)
+	frame := samples.Frame(100)
 	b := frame
 	for id := range uint32(9) {
 		b, _ = Encap(id, b)

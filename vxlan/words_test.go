@@ -6,6 +6,7 @@ import (
 	"testing"
 
 	"underpass/api"
+	"underpass/samples"
 )
 
 // plainEncap and plainDecap do as the words of K1 say, byte by byte.
@@ -36,52 +37,29 @@ func plainDecap(b []byte) (uint32, []byte, string) {
 	return uint32(b[4])*65536 + uint32(b[5])*256 + uint32(b[6]), b[8:], ""
 }
 
-func text(err error) string {
-	if err == nil {
-		return ""
-	}
-	return err.Error()
-}
-
 // wantAsWordsSay holds both calls against the words.
 func wantAsWordsSay(t *testing.T, id uint32, b []byte) {
 	t.Helper()
 	want, wrong := plainEncap(id, b)
-	if got, err := Encap(id, b); !bytes.Equal(got, want) || text(err) != wrong {
+	if got, err := Encap(id, b); !bytes.Equal(got, want) || samples.Text(err) != wrong {
 		t.Fatalf("Encap of %d, %d bytes, %.40X: got %.40X, %v, want %.40X, %s", id, len(b), b, got, err, want, wrong)
 	}
 	n, frame, wrong := plainDecap(b)
-	if m, got, err := Decap(b); m != n || !bytes.Equal(got, frame) || text(err) != wrong {
+	if m, got, err := Decap(b); m != n || !bytes.Equal(got, frame) || samples.Text(err) != wrong {
 		t.Fatalf("Decap of %d bytes, %.40X: got %d, %.40X, %v, want %d, %.40X, %s", len(b), b, m, got, err, n, frame, wrong)
 	}
 }
 
-// noise is a row of numbers that look like no row.
-type noise uint64
-
-func (n *noise) below(limit int) int {
-	*n = *n*6364136223846793005 + 1442695040888963407
-	return int(uint64(*n)>>33) % limit
-}
-
-func (n *noise) bytes(size int) []byte {
-	b := make([]byte, size)
-	for i := range b {
-		b[i] = byte(n.below(256))
-	}
-	return b
-}
-
 func TestBothCallsDoAsTheWordsSay(t *testing.T) {
-	n := noise(11)
+	n := samples.Noise(11)
 	sizes := []int{0, 1, 7, 8, 9, 13, 14, 15, 21, 22, 23, 60, 8999, 9000, 9001, 9007, 9008, 9009, 9010}
 	for range 3000 {
-		id := uint32(n.below(1<<31)) >> n.below(16)
-		size := n.below(40)
-		if n.below(4) == 0 {
-			size = sizes[n.below(len(sizes))]
+		id := uint32(n.Below(1<<31)) >> n.Below(16)
+		size := n.Below(40)
+		if n.Below(4) == 0 {
+			size = sizes[n.Below(len(sizes))]
 		}
-		b := n.bytes(size)
+		b := n.Bytes(size)
 		wantAsWordsSay(t, id, b)
 		wantAsWordsSay(t, id, b)
 	}

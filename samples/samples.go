@@ -1,0 +1,41 @@
+// Package samples is what the tests make their inputs of. No layer calls it.
+package samples
+
+// Noise is a row of numbers that are the same in each run, and look like no
+// row.
+type Noise uint64
+
+// Below is the next number: from 0 to one less than the limit.
+func (n *Noise) Below(limit int) int {
+	*n = *n*6364136223846793005 + 1442695040888963407
+	return int(uint64(*n)>>33) % limit
+}
+
+// Bytes are so many bytes that look like no row.
+func (n *Noise) Bytes(size int) []byte {
+	b := make([]byte, size)
+	for i := range b {
+		b[i] = byte(n.Below(256))
+	}
+	return b
+}
+
+// Of is one of the numbers.
+func (n *Noise) Of(numbers ...int) int { return numbers[n.Below(len(numbers))] }
+
+// Frame is so many bytes, of which those beside each other are unlike.
+func Frame(size int) []byte {
+	b := make([]byte, size)
+	for i := range b {
+		b[i] = byte(i*7 + i>>8 + 0x31)
+	}
+	return b
+}
+
+// Text is an error's text, and none of nil.
+func Text(err error) string {
+	if err == nil {
+		return ""
+	}
+	return err.Error()
+}
