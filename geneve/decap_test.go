@@ -257,11 +257,11 @@ func TestWhatIsToldIsTheCallers(t *testing.T) {
 			_, l, frame, err := Decap(b[:len(b)-16])
 			want, wantedFrame := own(c.l), c.frame
 			if i < len(l) {
-				spoil(l[i].B)
+				samples.Spoil(l[i].B)
 				l[i].B, want[i].B = nil, nil
 			} else {
-				spoil(frame)
-				wantedFrame = make([]byte, len(frame))
+				samples.Spoil(frame)
+				wantedFrame = bytes.Repeat([]byte{0xE7}, len(frame))
 			}
 			if err != nil || !alike(l, want) || !bytes.Equal(frame, wantedFrame) {
 				t.Fatalf("%s: what is told shares bytes: %v, %.40X, %v", c.name, l, frame, err)
@@ -274,12 +274,6 @@ func TestWhatIsToldIsTheCallers(t *testing.T) {
 			t.Fatalf("%s: an answer shares what Decap was handed", c.name)
 		}
 	}
-}
-
-// spoil writes over bytes, and behind their end where they have room.
-func spoil(b []byte) {
-	clear(b[:cap(b)])
-	clear(append(b, 9, 9))
 }
 
 func TestDecapLeavesWhatItRefuses(t *testing.T) {

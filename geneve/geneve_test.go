@@ -2,10 +2,7 @@ package geneve
 
 import (
 	"bytes"
-	"errors"
-	"reflect"
 	"slices"
-	"strconv"
 	"testing"
 
 	"underpass/api"
@@ -72,14 +69,11 @@ func alike(a, b []api.Option) bool {
 // told is what stands in the packet: what is ahead of the frame, and the frame.
 func told(head, frame []byte) []byte { return append(bytes.Clone(head), frame...) }
 
-// wantError asks for an error of this layer's own, its text and its number.
+// wantError asks for an error of this layer's own.
 func wantError(t *testing.T, what string, err error, code api.Errno) {
 	t.Helper()
-	if !reflect.DeepEqual(err, api.Wrap("geneve", code)) {
+	if !samples.IsWrong(err, code, "geneve") {
 		t.Fatalf("%s: got %v, want %v of geneve", what, err, code)
-	}
-	if text := "geneve: error " + strconv.Itoa(int(code)); err.Error() != text || api.Code(err) != code || !errors.Is(err, code) {
-		t.Fatalf("%s: got %q, code %d, want %q", what, err, api.Code(err), text)
 	}
 }
 
@@ -142,11 +136,8 @@ func wantNoFrame(t *testing.T, what string, b []byte, code api.Errno) {
 func wantCut(t *testing.T, what string, b []byte) {
 	t.Helper()
 	id, l, frame, err := Decap(b)
-	if !reflect.DeepEqual(err, api.Wrap("geneve", api.Wrap("octets", api.ErrShort))) || err.Error() != "geneve: octets: error 2" {
+	if !samples.IsWrong(err, api.ErrShort, "geneve", "octets") {
 		t.Fatalf("%s: Decap: got %v", what, err)
-	}
-	if api.Code(err) != api.ErrShort || !errors.Is(err, api.ErrShort) {
-		t.Fatalf("%s: Decap: got code %d", what, api.Code(err))
 	}
 	wantNothing(t, what, id, l, frame)
 }

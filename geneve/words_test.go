@@ -2,7 +2,7 @@ package geneve
 
 import (
 	"bytes"
-	"errors"
+	"slices"
 	"testing"
 
 	"underpass/api"
@@ -181,26 +181,20 @@ func TestCallsHaveNothingToDoWithEachOther(t *testing.T) {
 // What octets met is below what this layer tells; its own error is right below,
 // and is told once, also where it is Right's.
 func TestWhichLayersAnErrorWentBy(t *testing.T) {
-	layers := func(err error) (names []string) {
-		for w := new(api.Wrong); errors.As(err, &w); err = w.Err {
-			names = append(names, w.Layer)
-		}
-		return names
-	}
 	_, _, _, err := Decap(make([]byte, 7))
-	if got := layers(err); len(got) != 2 || got[0] != "geneve" || got[1] != "octets" {
+	if got := samples.Layers(err); !slices.Equal(got, []string{"geneve", "octets"}) {
 		t.Fatalf("seven bytes: %v", got)
 	}
 	_, _, _, err = Decap([]byte{1, 0, 0x65, 0x58, 0, 0, 5, 0, 0, 0, 0, 1})
-	if got := layers(err); len(got) != 1 || got[0] != "geneve" {
+	if got := samples.Layers(err); !slices.Equal(got, []string{"geneve"}) {
 		t.Fatalf("an option that needs more: %v", got)
 	}
 	_, err = Encap(1, listOf(1), samples.Frame(14))
-	if got := layers(err); len(got) != 1 || got[0] != "geneve" {
+	if got := samples.Layers(err); !slices.Equal(got, []string{"geneve"}) {
 		t.Fatalf("an option that may not be: %v", got)
 	}
 	_, err = Encap(1, nil, nil)
-	if got := layers(err); len(got) != 1 || got[0] != "geneve" {
+	if got := samples.Layers(err); !slices.Equal(got, []string{"geneve"}) {
 		t.Fatalf("no frame: %v", got)
 	}
 }

@@ -1,6 +1,14 @@
 // Package samples is what the tests make their inputs of. No layer calls it.
 package samples
 
+import (
+	"errors"
+	"slices"
+	"strings"
+
+	"underpass/api"
+)
+
 // Noise is a row of numbers that are the same in each run, and look like no
 // row.
 type Noise uint64
@@ -38,4 +46,31 @@ func Text(err error) string {
 		return ""
 	}
 	return err.Error()
+}
+
+// Layers are those that an error went by, the outermost first.
+func Layers(err error) []string {
+	var names []string
+	for {
+		w, ok := err.(*api.Wrong)
+		if !ok {
+			return names
+		}
+		names = append(names, w.Layer)
+		err = w.Err
+	}
+}
+
+// IsWrong tells whether an error is a number that went by just these layers,
+// the outermost first, with the text that it has by that.
+func IsWrong(err error, code api.Errno, layers ...string) bool {
+	text := strings.Join(append(slices.Clone(layers), code.Error()), ": ")
+	return Text(err) == text && slices.Equal(Layers(err), layers) && errors.Is(err, code) && api.Code(err) == code
+}
+
+// Spoil writes over bytes, and behind their end as far as they have room.
+func Spoil(b []byte) {
+	for i := range b[:cap(b)] {
+		b[:cap(b)][i] = 0xE7
+	}
 }

@@ -2,9 +2,6 @@ package vxlan
 
 import (
 	"bytes"
-	"errors"
-	"reflect"
-	"strconv"
 	"testing"
 
 	"underpass/api"
@@ -33,14 +30,11 @@ var packets = []struct {
 // told is what stands in the packet: the eight bytes and the frame.
 func told(head, frame []byte) []byte { return append(bytes.Clone(head), frame...) }
 
-// wantError asks for an error of this layer's own, its text and its number.
+// wantError asks for an error of this layer's own.
 func wantError(t *testing.T, what string, err error, code api.Errno) {
 	t.Helper()
-	if !reflect.DeepEqual(err, api.Wrap("vxlan", code)) {
+	if !samples.IsWrong(err, code, "vxlan") {
 		t.Fatalf("%s: got %v, want %v of vxlan", what, err, code)
-	}
-	if text := "vxlan: error " + strconv.Itoa(int(code)); err.Error() != text || api.Code(err) != code || !errors.Is(err, code) {
-		t.Fatalf("%s: got %q, code %d, want %q", what, err, api.Code(err), text)
 	}
 }
 
@@ -86,11 +80,8 @@ func wantNoFrame(t *testing.T, what string, b []byte, code api.Errno) {
 func wantNoHead(t *testing.T, what string, b []byte) {
 	t.Helper()
 	id, frame, err := Decap(b)
-	if !reflect.DeepEqual(err, api.Wrap("vxlan", api.Wrap("octets", api.ErrShort))) || err.Error() != "vxlan: octets: error 2" {
+	if !samples.IsWrong(err, api.ErrShort, "vxlan", "octets") {
 		t.Fatalf("%s: Decap: got %v", what, err)
-	}
-	if api.Code(err) != api.ErrShort || !errors.Is(err, api.ErrShort) {
-		t.Fatalf("%s: Decap: got code %d", what, api.Code(err))
 	}
 	wantNothing(t, what, id, frame)
 }

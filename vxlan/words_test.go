@@ -2,10 +2,9 @@ package vxlan
 
 import (
 	"bytes"
-	"errors"
+	"slices"
 	"testing"
 
-	"underpass/api"
 	"underpass/samples"
 )
 
@@ -78,22 +77,16 @@ func TestCallsHaveNothingToDoWithEachOther(t *testing.T) {
 
 // What octets met is below what this layer tells; its own error is right below.
 func TestWhichLayersAnErrorWentBy(t *testing.T) {
-	layers := func(err error) (names []string) {
-		for w := new(api.Wrong); errors.As(err, &w); err = w.Err {
-			names = append(names, w.Layer)
-		}
-		return names
-	}
 	_, _, err := Decap(make([]byte, 7))
-	if got := layers(err); len(got) != 2 || got[0] != "vxlan" || got[1] != "octets" {
+	if got := samples.Layers(err); !slices.Equal(got, []string{"vxlan", "octets"}) {
 		t.Fatalf("seven bytes: %v", got)
 	}
 	_, _, err = Decap(append([]byte{8}, make([]byte, 7)...))
-	if got := layers(err); len(got) != 1 || got[0] != "vxlan" {
+	if got := samples.Layers(err); !slices.Equal(got, []string{"vxlan"}) {
 		t.Fatalf("eight bytes: %v", got)
 	}
 	_, err = Encap(1, nil)
-	if got := layers(err); len(got) != 1 || got[0] != "vxlan" {
+	if got := samples.Layers(err); !slices.Equal(got, []string{"vxlan"}) {
 		t.Fatalf("no frame: %v", got)
 	}
 }
