@@ -240,7 +240,7 @@ func TestDecapKeepsNothingThatItWasHanded(t *testing.T) {
 		for i := range b {
 			b[i] = 0xE7
 		}
-		if err != nil || id != c.id || !bytes.Equal(frame, c.frame) || !alike(l, c.l) {
+		if err != nil || id != c.id || !bytes.Equal(frame, c.frame) || !samples.Alike(l, c.l) {
 			t.Fatalf("%s: got id %d, %v, %.40X, %v once the bytes were written over", c.name, id, l, frame, err)
 		}
 		wantNoFrame(t, "the bytes that were written over", b, api.ErrForm)
@@ -255,7 +255,7 @@ func TestWhatIsToldIsTheCallers(t *testing.T) {
 		_, other, otherFrame, _ := Decap(b[:len(b)-16])
 		for i := range len(c.l) + 1 {
 			_, l, frame, err := Decap(b[:len(b)-16])
-			want, wantedFrame := own(c.l), c.frame
+			want, wantedFrame := samples.Own(c.l), c.frame
 			if i < len(l) {
 				samples.Spoil(l[i].B)
 				l[i].B, want[i].B = nil, nil
@@ -263,11 +263,11 @@ func TestWhatIsToldIsTheCallers(t *testing.T) {
 				samples.Spoil(frame)
 				wantedFrame = bytes.Repeat([]byte{0xE7}, len(frame))
 			}
-			if err != nil || !alike(l, want) || !bytes.Equal(frame, wantedFrame) {
+			if err != nil || !samples.Alike(l, want) || !bytes.Equal(frame, wantedFrame) {
 				t.Fatalf("%s: what is told shares bytes: %v, %.40X, %v", c.name, l, frame, err)
 			}
 		}
-		if !alike(other, c.l) || !bytes.Equal(otherFrame, c.frame) {
+		if !samples.Alike(other, c.l) || !bytes.Equal(otherFrame, c.frame) {
 			t.Fatalf("%s: two answers share bytes: %v, %.40X", c.name, other, otherFrame)
 		}
 		if !bytes.Equal(b, append(told(c.head, c.frame), bytes.Repeat([]byte{0xAA}, 16)...)) {

@@ -164,7 +164,7 @@ func TestEncapLooksAtNoBytesBehindTheEnd(t *testing.T) {
 	for _, n := range []int{14, 60, 9000} {
 		wantPacket(t, "a frame with more in its room", 1, l, room[:n], told(head, room[:n]))
 	}
-	if !bytes.Equal(room, samples.Frame(9100)) || !alike(l[:3], append(own(l), listOf(4, 1, 1)[1:]...)) {
+	if !bytes.Equal(room, samples.Frame(9100)) || !samples.Alike(l[:3], append(samples.Own(l), listOf(4, 1, 1)[1:]...)) {
 		t.Fatal("Encap has written into the room of what it was handed")
 	}
 }
@@ -173,12 +173,12 @@ func TestEncapKeepsNothingThatItWasHanded(t *testing.T) {
 	for _, c := range packets {
 		room := append(bytes.Clone(c.frame), bytes.Repeat([]byte{0xAA}, 16)...)
 		frame := room[:len(c.frame)]
-		l := own(c.l)
+		l := samples.Own(c.l)
 		first, _ := Encap(c.id, l, frame)
 		second, err := Encap(c.id, l, frame)
 		clear(append(first, 9, 9))
 		clear(first)
-		if !bytes.Equal(frame, c.frame) || !bytes.Equal(room[len(frame):], bytes.Repeat([]byte{0xAA}, 16)) || !alike(l, c.l) {
+		if !bytes.Equal(frame, c.frame) || !bytes.Equal(room[len(frame):], bytes.Repeat([]byte{0xAA}, 16)) || !samples.Alike(l, c.l) {
 			t.Fatalf("%s: the packet shares what Encap was handed", c.name)
 		}
 		for i := range room {
@@ -208,7 +208,7 @@ func TestEncapLeavesWhatItRefuses(t *testing.T) {
 			for _, sizes := range [][]int{{4, 8}, {5}, {124, 124}} {
 				frame, l := samples.Frame(n), listOf(sizes...)
 				_, _ = Encap(id, l, frame)
-				if !bytes.Equal(frame, samples.Frame(n)) || !alike(l, listOf(sizes...)) {
+				if !bytes.Equal(frame, samples.Frame(n)) || !samples.Alike(l, listOf(sizes...)) {
 					t.Fatalf("id %d, %v: %d bytes, or the options, were changed", id, sizes, n)
 				}
 			}

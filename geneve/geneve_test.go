@@ -50,22 +50,6 @@ func listOf(sizes ...int) []api.Option {
 	return l
 }
 
-// own is the same list with bytes of its own.
-func own(l []api.Option) []api.Option {
-	l = slices.Clone(l)
-	for i := range l {
-		l[i].B = bytes.Clone(l[i].B)
-	}
-	return l
-}
-
-// alike tells whether two lists say the same; nil and empty do.
-func alike(a, b []api.Option) bool {
-	return slices.EqualFunc(a, b, func(x, y api.Option) bool {
-		return x.Class == y.Class && x.Type == y.Type && bytes.Equal(x.B, y.B)
-	})
-}
-
 // told is what stands in the packet: what is ahead of the frame, and the frame.
 func told(head, frame []byte) []byte { return append(bytes.Clone(head), frame...) }
 
@@ -111,7 +95,7 @@ func wantFrame(t *testing.T, what string, b []byte, id uint32, l []api.Option, w
 	if err != nil || n != id || !bytes.Equal(frame, want) {
 		t.Fatalf("%s: Decap: got id %d, %d bytes, %.40X, %v, want id %d, %d, %.40X", what, n, len(frame), frame, err, id, len(want), want)
 	}
-	if !alike(got, l) {
+	if !samples.Alike(got, l) {
 		t.Fatalf("%s: Decap: got options %v, want %v", what, got, l)
 	}
 }
@@ -193,7 +177,7 @@ func TestAPacketInAPacket(t *testing.T) {
 	}
 	for n := 8; n >= 0; n-- {
 		id, l, inside, err := Decap(b)
-		if err != nil || id != uint32(n) || !alike(l, listOf(4*n)) {
+		if err != nil || id != uint32(n) || !samples.Alike(l, listOf(4*n)) {
 			t.Fatalf("got id %d, %v, %v, want %d", id, l, err, n)
 		}
 		b = inside

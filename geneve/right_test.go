@@ -98,9 +98,9 @@ func TestRightLooksAtNoClassOrType(t *testing.T) {
 
 func TestRightLeavesTheList(t *testing.T) {
 	for _, l := range [][]api.Option{listOf(0, 4, 8), listOf(124, 124, 124), listOf(1, 4)} {
-		want := own(l)
+		want := samples.Own(l)
 		_ = Right(l)
-		if !alike(l, want) {
+		if !samples.Alike(l, want) {
 			t.Fatalf("got %v, want %v", l, want)
 		}
 	}

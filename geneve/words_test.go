@@ -110,7 +110,7 @@ func wantDecapAsWordsSay(t *testing.T, b []byte) {
 	t.Helper()
 	id, l, frame, wrong := plainDecap(b)
 	n, m, got, err := Decap(b)
-	if n != id || !alike(m, l) || !bytes.Equal(got, frame) || samples.Text(err) != wrong {
+	if n != id || !samples.Alike(m, l) || !bytes.Equal(got, frame) || samples.Text(err) != wrong {
 		t.Fatalf("Decap of %d bytes, %.60X: got %d, %v, %.40X, %v, want %d, %v, %.40X, %s", len(b), b, n, m, got, err, id, l, frame, wrong)
 	}
 }

@@ -2,6 +2,7 @@
 package samples
 
 import (
+	"bytes"
 	"errors"
 	"slices"
 	"strings"
@@ -66,6 +67,22 @@ func Layers(err error) []string {
 func IsWrong(err error, code api.Errno, layers ...string) bool {
 	text := strings.Join(append(slices.Clone(layers), code.Error()), ": ")
 	return Text(err) == text && slices.Equal(Layers(err), layers) && errors.Is(err, code) && api.Code(err) == code
+}
+
+// Own is the same list of options with bytes of its own.
+func Own(l []api.Option) []api.Option {
+	l = slices.Clone(l)
+	for i := range l {
+		l[i].B = bytes.Clone(l[i].B)
+	}
+	return l
+}
+
+// Alike tells whether two lists of options say the same; nil and empty do.
+func Alike(a, b []api.Option) bool {
+	return slices.EqualFunc(a, b, func(x, y api.Option) bool {
+		return x.Class == y.Class && x.Type == y.Type && bytes.Equal(x.B, y.B)
+	})
 }
 
 // Spoil writes over bytes, and behind their end as far as they have room.

@@ -34,6 +34,41 @@ func TestIsWrong(t *testing.T) {
 	}
 }
 
+func TestAlike(t *testing.T) {
+	l := []api.Option{{Class: 1, Type: 2, B: []byte{3, 4}}, {Class: 5}}
+	if !Alike(l, []api.Option{{Class: 1, Type: 2, B: []byte{3, 4}}, {Class: 5, B: []byte{}}}) || !Alike(nil, l[:0]) {
+		t.Fatal("lists that say the same are not alike")
+	}
+	for i, other := range [][]api.Option{
+		nil,
+		l[:1],
+		l[1:],
+		{l[1], l[0]},
+		{l[0], l[1], {}},
+		{l[0], {Class: 6}},
+		{l[0], {Class: 5, Type: 1}},
+		{l[0], {Class: 5, B: []byte{0}}},
+		{{Class: 1, Type: 2, B: []byte{3, 5}}, l[1]},
+	} {
+		if Alike(l, other) || Alike(other, l) {
+			t.Fatalf("%d: lists that say another thing are alike", i)
+		}
+	}
+}
+
+func TestOwnSharesNothing(t *testing.T) {
+	l := []api.Option{{Class: 1, Type: 2, B: []byte{3, 4}}, {Class: 5}}
+	other := Own(l)
+	if !Alike(l, other) {
+		t.Fatalf("got %v", other)
+	}
+	Spoil(l[0].B)
+	l[1].Class = 9
+	if !Alike(other, []api.Option{{Class: 1, Type: 2, B: []byte{3, 4}}, {Class: 5}}) {
+		t.Fatalf("got %v once the first list was written over", other)
+	}
+}
+
 func TestSpoilReachesAllRoom(t *testing.T) {
 	room := []byte{1, 2, 3, 4, 5}
 	Spoil(room[1:2:4])
